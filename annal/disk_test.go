@@ -1,0 +1,115 @@
+package annal_test
+
+import (
+	"hash/crc32"
+	"math/rand/v2"
+	"strconv"
+	"testing"
+
+	"annal/annal"
+	"annal/api"
+)
+
+// What the tests of this folder lay on a disk, written apart from the program's own reading of it.
+
+func little(value, size int) string {
+	var b []byte
+	for i := range size {
+		b = append(b, byte(value>>(8*i)))
+	}
+	return string(b)
+}
+
+func frame(body string) string {
+	check := crc32.Checksum([]byte(body), crc32.MakeTable(crc32.Castagnoli))
+	return little(len(body), 2) + little(int(check), 4) + body
+}
+
+func batchFrame(number int, txns [][]api.Op) string {
+	s := little(number, 4) + little(len(txns), 1)
+	for _, txn := range txns {
+		s += little(len(txn), 1)
+		for _, op := range txn {
+			s += little(op.Kind, 1) + little(op.K, 1)
+			switch op.Kind {
+			case api.Put, api.Add, api.Need:
+				s += little(op.A, 8)
+			case api.Sum:
+				s += little(op.A, 1) + little(op.B, 1)
+			}
+		}
+	}
+	return frame(s)
+}
+
+func manifestFile(b, n int) api.File {
+	return api.File{Name: "manifest", Data: frame(little(b, 4) + little(n, 4))}
+}
+
+func segmentFile(n int, data string) api.File {
+	return api.File{Name: "log." + strconv.Itoa(n), Data: data}
+}
+
+func checkpointFile(b int, table map[int]int) api.File {
+	data := ""
+	for page := range api.Pages {
+		has, values := 0, ""
+		for i := range api.PageKeys {
+			if v, ok := table[page*api.PageKeys+i]; ok {
+				has |= 1 << i
+				values += little(v, 8)
+			}
+		}
+		data += frame(little(has, 1) + values)
+	}
+	return api.File{Name: "ckpt." + strconv.Itoa(b), Data: data + frame("end"+little(b, 4))}
+}
+
+// put: a batch of one transaction Put k v.
+func put(k, v int) [][]api.Op { return [][]api.Op{{{Kind: api.Put, K: k, A: v}}} }
+
+func mustOpen(t *testing.T, disk ...api.File) *annal.Annal {
+	t.Helper()
+	a, e := annal.Open(disk)
+	if a == nil || e != api.OK {
+		t.Fatalf("Open: %v, %d", a, e)
+	}
+	return a
+}
+
+func tableOf(t *testing.T, a *annal.Annal) map[int]int {
+	t.Helper()
+	table := map[int]int{}
+	for k := range api.Keys {
+		v, has, e := a.Get(k)
+		if e != api.OK || !has && v != 0 {
+			t.Fatalf("P3: Get(%d): %d, %v, %d", k, v, has, e)
+		}
+		if has {
+			table[k] = v
+		}
+	}
+	return table
+}
+
+// randomBatch has few keys, so that its operations meet.
+func randomBatch(random *rand.Rand) [][]api.Op {
+	var batch [][]api.Op
+	for range 1 + random.IntN(api.MaxTxns) {
+		var txn []api.Op
+		for range 1 + random.IntN(3) {
+			op := api.Op{Kind: 1 + random.IntN(6), K: random.IntN(8) * 9}
+			switch op.Kind {
+			case api.Put, api.Add:
+				op.A = int(random.Uint64()) >> random.IntN(64)
+			case api.Need:
+				op.A = random.IntN(3) - 1
+			case api.Sum:
+				op.A, op.B = random.IntN(64), random.IntN(64)
+			}
+			txn = append(txn, op)
+		}
+		batch = append(batch, txn)
+	}
+	return batch
+}

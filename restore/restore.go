@@ -1,0 +1,98 @@
+// Package restore: a table is read back from what stands on a disk.
+package restore
+
+import (
+	"errors"
+	"strconv"
+
+	"annal/api"
+	"annal/table"
+	"annal/wire"
+)
+
+var (
+	ErrTwice   = errors.New("two files have this name")
+	ErrMissing = errors.New("there is no such file")
+)
+
+const (
+	manifestName   = "manifest"
+	checkpointName = "ckpt."
+	segmentName    = "log."
+)
+
+// FileError says in which file the fault stands.
+type FileError struct {
+	Name string
+	Err  error
+}
+
+func (e *FileError) Error() string { return e.Name + ": " + e.Err.Error() }
+
+func (e *FileError) Unwrap() error { return e.Err }
+
+// State is what a disk tells.
+type State struct {
+	Table       table.Table
+	Last        int // the number of the last batch
+	NextSegment int // the number of the next segment that is created
+}
+
+// Read reads the newest checkpoint and the log behind it.
+func Read(disk []api.File) (State, error) {
+	places, err := placesByName(disk)
+	if err != nil {
+		return State{}, err
+	}
+	manifest, err := readManifest(disk, places)
+	if err != nil {
+		return State{}, err
+	}
+	base, err := readCheckpoint(disk, places, manifest.Checkpoint)
+	if err != nil {
+		return State{}, err
+	}
+	segments := segmentsOf(disk)
+	state := State{Table: base, Last: manifest.Checkpoint, NextSegment: nextSegment(segments, manifest.Segment)}
+	state.replay(from(segments, manifest.Segment))
+	return state, nil
+}
+
+func placesByName(disk []api.File) (map[string]int, error) {
+	places := make(map[string]int, len(disk))
+	for i, file := range disk {
+		if _, there := places[file.Name]; there {
+			return nil, &FileError{Name: file.Name, Err: ErrTwice}
+		}
+		places[file.Name] = i
+	}
+	return places, nil
+}
+
+func readManifest(disk []api.File, places map[string]int) (wire.Manifest, error) {
+	place, there := places[manifestName]
+	if !there {
+		return wire.Manifest{Checkpoint: 0, Segment: 1}, nil
+	}
+	manifest, err := wire.ReadManifest(disk[place].Data)
+	if err != nil {
+		return wire.Manifest{}, &FileError{Name: manifestName, Err: err}
+	}
+	return manifest, nil
+}
+
+func readCheckpoint(disk []api.File, places map[string]int, batch int) (table.Table, error) {
+	if batch == 0 {
+		return table.Table{}, nil
+	}
+	name := checkpointName + strconv.Itoa(batch)
+	place, there := places[name]
+	if !there {
+		return table.Table{}, &FileError{Name: name, Err: ErrMissing}
+	}
+	t, err := wire.ReadCheckpoint(disk[place].Data, batch)
+	if err != nil {
+		return table.Table{}, &FileError{Name: name, Err: err}
+	}
+	return t, nil
+}

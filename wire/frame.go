@@ -1,0 +1,47 @@
+// Package wire: the bytes that the files of an annal are made of, and how they are read.
+package wire
+
+import "errors"
+
+var (
+	ErrShort = errors.New("a frame is not whole")
+	ErrCheck = errors.New("the check of a frame is wrong")
+)
+
+const (
+	lengthBytes = 2
+	checkBytes  = 4
+
+	checkStart = 4294967295
+	checkTaps  = 2197175160
+)
+
+// Frame splits the first frame off: its body, and what stands behind it.
+func Frame(data string) (body, rest string, err error) {
+	r := reader{rest: data}
+	length := int(r.number(lengthBytes))
+	check := uint32(r.number(checkBytes))
+	if r.short || len(r.rest) < length {
+		return "", "", ErrShort
+	}
+	body, rest = r.rest[:length], r.rest[length:]
+	if checkOf(body) != check {
+		return "", "", ErrCheck
+	}
+	return body, rest, nil
+}
+
+func checkOf(body string) uint32 {
+	check := uint32(checkStart)
+	for i := range len(body) {
+		check ^= uint32(body[i])
+		for range 8 {
+			low := check & 1
+			check >>= 1
+			if low == 1 {
+				check ^= checkTaps
+			}
+		}
+	}
+	return ^check
+}

@@ -1,0 +1,30 @@
+package wire
+
+import (
+	"errors"
+
+	"annal/api"
+)
+
+var ErrManifest = errors.New("it is not one frame of a checkpoint's and a segment's number")
+
+// Manifest names a checkpoint (0: none) and the segment with which the log begins.
+type Manifest struct {
+	Checkpoint, Segment int
+}
+
+// ReadManifest reads the bytes of the file.
+func ReadManifest(data string) (Manifest, error) {
+	body, rest, err := Frame(data)
+	if err != nil {
+		return Manifest{}, err
+	}
+	r := reader{rest: body}
+	var m Manifest
+	m.Checkpoint = int(r.number(4))
+	m.Segment = int(r.number(4))
+	if rest != "" || !r.ended() || m.Checkpoint > api.MaxNumber || m.Segment < 1 || m.Segment > api.MaxNumber {
+		return Manifest{}, ErrManifest
+	}
+	return m, nil
+}
