@@ -7,15 +7,20 @@ import (
 	"annal/api"
 	"annal/restore"
 	"annal/table"
+	"annal/wire"
 )
 
 // Annal is a table and its log.
 type Annal struct {
 	table       table.Table
-	last        int  // the number of the last batch
-	waiting     int  // how many batches wait to be flushed
-	nextSegment int  // the number of the next segment that is created
-	reads       bool // it can only be read
+	last        int      // the number of the last batch
+	waiting     []string // the frames of the batches that wait, which are the last ones
+	base        int      // the number of the manifest's checkpoint (0: none)
+	segment     int      // the number of its segment (0: none)
+	segmentSize int      // how many bytes that has
+	nextSegment int      // the number of the next segment that is created
+	job         []step   // what is still to be done
+	reads       bool     // it can only be read
 }
 
 // Open reads an annal back (P10).
@@ -24,7 +29,7 @@ func Open(disk []api.File) (*Annal, api.Errno) {
 	if err != nil {
 		return nil, openErrno(err)
 	}
-	return &Annal{table: state.Table, last: state.Last, nextSegment: state.NextSegment}, api.OK
+	return &Annal{table: state.Table, last: state.Last, base: state.Base, nextSegment: state.NextSegment}, api.OK
 }
 
 // openErrno: a name that stands twice is the caller's fault; any other fault stands in a file.
@@ -44,11 +49,12 @@ func (a *Annal) Submit(batch [][]api.Op) ([]bool, api.Errno) {
 	if !table.IsBatch(batch) {
 		return nil, api.ErrBatch
 	}
-	if a.waiting >= api.MaxWaiting || a.last >= api.MaxNumber {
+	if len(a.waiting) >= api.MaxWaiting || a.last >= api.MaxNumber {
 		return nil, api.ErrMany
 	}
 	a.last++
-	a.waiting++
+	asked := wire.Batch{Number: a.last, Txns: batch}
+	a.waiting = append(a.waiting, wire.FrameOf(asked.Bytes()))
 	return a.table.Do(batch), api.OK
 }
 
@@ -61,23 +67,25 @@ func (a *Annal) Get(key int) (int, bool, api.Errno) {
 	return value, has, api.OK
 }
 
-// Flush writes the log (P6).
-func (a *Annal) Flush() api.Errno { return api.OK }
-
 // Start begins a checkpoint (P7).
-func (a *Annal) Start() api.Errno { return api.OK }
+func (a *Annal) Start() api.Errno { return a.refusal() }
 
 // Page goes on with it (P7).
-func (a *Annal) Page() api.Errno { return api.OK }
+func (a *Annal) Page() api.Errno { return a.refusal() }
 
 // Trim removes old files (P8).
-func (a *Annal) Trim() api.Errno { return api.OK }
-
-// Act tells what is to be done now (P4).
-func (a *Annal) Act() (api.Act, bool) { return api.Act{}, false }
-
-// Done tells that it was done, or failed (P4).
-func (a *Annal) Done(ok bool) api.Errno { return api.OK }
+func (a *Annal) Trim() api.Errno { return a.refusal() }
 
 // Look tells how the annal is (P9).
-func (a *Annal) Look() api.View { return api.View{} }
+func (a *Annal) Look() api.View {
+	return api.View{
+		Last:    a.last,
+		Acked:   a.last - len(a.waiting),
+		Waiting: len(a.waiting),
+		Base:    a.base,
+		Segment: a.segment,
+		Pages:   -1,
+		Job:     a.hasJob(),
+		Reads:   a.reads,
+	}
+}

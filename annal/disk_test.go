@@ -4,6 +4,7 @@ import (
 	"hash/crc32"
 	"math/rand/v2"
 	"strconv"
+	"strings"
 	"testing"
 
 	"annal/annal"
@@ -112,4 +113,80 @@ func randomBatch(random *rand.Rand) [][]api.Op {
 		batch = append(batch, txn)
 	}
 	return batch
+}
+
+// storage is a disk on which acts are done.
+type storage map[string]string
+
+func (s storage) do(t *testing.T, x api.Act) {
+	t.Helper()
+	_, there := s[x.Name]
+	switch x.Kind {
+	case api.Create:
+		s[x.Name] = ""
+	case api.Append:
+		s[x.Name] += x.Data
+	case api.SyncDir:
+		there = true
+	}
+	if x.Kind != api.Create && !there {
+		t.Fatalf("there is no file for %#v", x)
+	}
+}
+
+func (s storage) files() []api.File {
+	var files []api.File
+	for name, data := range s {
+		files = append(files, api.File{Name: name, Data: data})
+	}
+	return files
+}
+
+// acts are those of a job, all of which are done.
+func acts(t *testing.T, a *annal.Annal) []api.Act {
+	t.Helper()
+	var list []api.Act
+	for {
+		x, is := a.Act()
+		if !is {
+			return list
+		}
+		list = append(list, x)
+		if e := a.Done(true); e != api.OK {
+			t.Fatalf("P4: Done: %d", e)
+		}
+	}
+}
+
+// createActs, writeActs: the two halves of a Flush's job.
+func createActs(segment int) []api.Act {
+	return []api.Act{{Kind: api.Create, Name: "log." + strconv.Itoa(segment)}, {Kind: api.SyncDir}}
+}
+
+func writeActs(segment int, frames ...string) []api.Act {
+	name := "log." + strconv.Itoa(segment)
+	return []api.Act{{Kind: api.Append, Name: name, Data: strings.Join(frames, "")}, {Kind: api.Sync, Name: name}}
+}
+
+func mustSubmit(t *testing.T, a *annal.Annal, batch [][]api.Op) {
+	t.Helper()
+	if l, e := a.Submit(batch); len(l) != len(batch) || e != api.OK {
+		t.Fatalf("P3: Submit(%v): %v, %d", batch, l, e)
+	}
+}
+
+// mustFlush: the acts of a Flush that nothing stands in the way of.
+func mustFlush(t *testing.T, a *annal.Annal) []api.Act {
+	t.Helper()
+	if e := a.Flush(); e != api.OK {
+		t.Fatalf("P6: Flush: %d", e)
+	}
+	return acts(t, a)
+}
+
+func mustLook(t *testing.T, what string, a *annal.Annal, want api.View) {
+	t.Helper()
+	if got := a.Look(); got != want {
+		t.Errorf("P9: %s: %+v, want %+v", what, got, want)
+	}
 }

@@ -3,11 +3,10 @@ package restore
 import (
 	"cmp"
 	"slices"
-	"strconv"
-	"strings"
 	"sync"
 
 	"annal/api"
+	"annal/names"
 	"annal/wire"
 )
 
@@ -25,25 +24,12 @@ type place struct {
 func segmentsOf(disk []api.File) []segment {
 	var segments []segment
 	for _, file := range disk {
-		if number, is := segmentNumber(file.Name); is {
+		if number, is := names.SegmentNumber(file.Name); is {
 			segments = append(segments, segment{number: number, data: file.Data})
 		}
 	}
 	slices.SortFunc(segments, func(x, y segment) int { return cmp.Compare(x.number, y.number) })
 	return segments
-}
-
-func segmentNumber(name string) (int, bool) {
-	digits, is := strings.CutPrefix(name, segmentName)
-	if !is {
-		return 0, false
-	}
-	number, err := strconv.Atoi(digits)
-	if err != nil || number < 1 || number > api.MaxNumber {
-		return 0, false
-	}
-	// Atoi takes signs and noughts ahead, which no segment's name has.
-	return number, strconv.Itoa(number) == digits
 }
 
 // from leaves out the segments below the first one of the log.

@@ -3,9 +3,9 @@ package restore
 
 import (
 	"errors"
-	"strconv"
 
 	"annal/api"
+	"annal/names"
 	"annal/table"
 	"annal/wire"
 )
@@ -13,12 +13,6 @@ import (
 var (
 	ErrTwice   = errors.New("two files have this name")
 	ErrMissing = errors.New("there is no such file")
-)
-
-const (
-	manifestName   = "manifest"
-	checkpointName = "ckpt."
-	segmentName    = "log."
 )
 
 // FileError says in which file the fault stands.
@@ -34,6 +28,7 @@ func (e *FileError) Unwrap() error { return e.Err }
 // State is what a disk tells.
 type State struct {
 	Table       table.Table
+	Base        int // the number of the manifest's checkpoint (0: none)
 	Last        int // the number of the last batch
 	NextSegment int // the number of the next segment that is created
 }
@@ -53,7 +48,7 @@ func Read(disk []api.File) (State, error) {
 		return State{}, err
 	}
 	segments := segmentsOf(disk)
-	state := State{Table: base, Last: manifest.Checkpoint, NextSegment: nextSegment(segments, manifest.Segment)}
+	state := State{Table: base, Base: manifest.Checkpoint, Last: manifest.Checkpoint, NextSegment: nextSegment(segments, manifest.Segment)}
 	state.replay(from(segments, manifest.Segment))
 	return state, nil
 }
@@ -70,13 +65,13 @@ func placesByName(disk []api.File) (map[string]int, error) {
 }
 
 func readManifest(disk []api.File, places map[string]int) (wire.Manifest, error) {
-	place, there := places[manifestName]
+	place, there := places[names.Manifest]
 	if !there {
 		return wire.Manifest{Checkpoint: 0, Segment: 1}, nil
 	}
 	manifest, err := wire.ReadManifest(disk[place].Data)
 	if err != nil {
-		return wire.Manifest{}, &FileError{Name: manifestName, Err: err}
+		return wire.Manifest{}, &FileError{Name: names.Manifest, Err: err}
 	}
 	return manifest, nil
 }
@@ -85,7 +80,7 @@ func readCheckpoint(disk []api.File, places map[string]int, batch int) (table.Ta
 	if batch == 0 {
 		return table.Table{}, nil
 	}
-	name := checkpointName + strconv.Itoa(batch)
+	name := names.Checkpoint(batch)
 	place, there := places[name]
 	if !there {
 		return table.Table{}, &FileError{Name: name, Err: ErrMissing}

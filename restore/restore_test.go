@@ -3,7 +3,6 @@ package restore
 import (
 	"errors"
 	"hash/crc32"
-	"strconv"
 	"testing"
 
 	"annal/api"
@@ -65,19 +64,6 @@ func TestNextSegment(t *testing.T) {
 	} {
 		if state, err := Read(c.disk); err != nil || state.NextSegment != c.next {
 			t.Errorf("line %d: %d, %v, want %d", k, state.NextSegment, err, c.next)
-		}
-	}
-}
-
-func TestSegmentNumber(t *testing.T) {
-	for _, n := range []int{1, 9, 10, 100, api.MaxNumber} {
-		if got, is := segmentNumber("log." + strconv.Itoa(n)); got != n || !is {
-			t.Errorf("log.%d: %d, %v", n, got, is)
-		}
-	}
-	for _, name := range []string{"", "log", "log.", "log.0", "log.01", "log.-1", "log.+1", "log.1.", "log. 1", "log.1\n", "log.1_0", "log.0x1", "log.1e1", "log.1000000000", "log.18446744073709551617", "log.\u0661", "log.\xff", "xlog.1", "LOG.1", "ckpt.1"} {
-		if _, is := segmentNumber(name); is {
-			t.Errorf("%q is no segment", name)
 		}
 	}
 }

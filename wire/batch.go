@@ -18,7 +18,7 @@ type Batch struct {
 // ReadBatch reads the bytes of a batch.
 func ReadBatch(body string) (Batch, error) {
 	r := reader{rest: body}
-	batch := Batch{Number: int(r.number(4))}
+	batch := Batch{Number: int(r.number(numberBytes))}
 	for range int(r.number(1)) {
 		batch.Txns = append(batch.Txns, r.transaction())
 	}
@@ -46,10 +46,36 @@ func (r *reader) operation() api.Op {
 	op.K = int(r.number(1))
 	switch op.Kind {
 	case api.Put, api.Add, api.Need:
-		op.A = int(r.number(8))
+		op.A = int(r.number(valueBytes))
 	case api.Sum:
 		op.A = int(r.number(1))
 		op.B = int(r.number(1))
 	}
 	return op
+}
+
+// Bytes are those from which ReadBatch reads the batch.
+func (b Batch) Bytes() string {
+	data := appendNumber(nil, b.Number, numberBytes)
+	data = appendNumber(data, len(b.Txns), 1)
+	for _, txn := range b.Txns {
+		data = appendNumber(data, len(txn), 1)
+		for _, op := range txn {
+			data = appendOperation(data, op)
+		}
+	}
+	return string(data)
+}
+
+func appendOperation(data []byte, op api.Op) []byte {
+	data = appendNumber(data, op.Kind, 1)
+	data = appendNumber(data, op.K, 1)
+	switch op.Kind {
+	case api.Put, api.Add, api.Need:
+		data = appendNumber(data, op.A, valueBytes)
+	case api.Sum:
+		data = appendNumber(data, op.A, 1)
+		data = appendNumber(data, op.B, 1)
+	}
+	return data
 }

@@ -37,7 +37,7 @@ func readPage(t *table.Table, page int, body string) error {
 	has := r.number(1)
 	for i := range api.PageKeys {
 		if has>>i&1 == 1 {
-			t.Put(page*api.PageKeys+i, int(r.number(8)))
+			t.Put(page*api.PageKeys+i, int(r.number(valueBytes)))
 		}
 	}
 	if !r.ended() {
@@ -53,7 +53,7 @@ func readEnd(data string, batch int) error {
 	}
 	number, marked := strings.CutPrefix(body, "end")
 	r := reader{rest: number}
-	if !marked || int(r.number(4)) != batch || !r.ended() || rest != "" {
+	if !marked || int(r.number(numberBytes)) != batch || !r.ended() || rest != "" {
 		return ErrEnd
 	}
 	return nil

@@ -1,4 +1,4 @@
-// Package wire: the bytes that the files of an annal are made of, and how they are read.
+// Package wire: the bytes that the files of an annal are made of, read and written.
 package wire
 
 import "errors"
@@ -29,6 +29,13 @@ func Frame(data string) (body, rest string, err error) {
 		return "", "", ErrCheck
 	}
 	return body, rest, nil
+}
+
+// FrameOf is the frame of a body, whose length must be one of two bytes.
+func FrameOf(body string) string {
+	head := appendNumber(nil, len(body), lengthBytes)
+	head = appendNumber(head, int(checkOf(body)), checkBytes)
+	return string(head) + body
 }
 
 func checkOf(body string) uint32 {

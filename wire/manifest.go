@@ -21,8 +21,8 @@ func ReadManifest(data string) (Manifest, error) {
 	}
 	r := reader{rest: body}
 	var m Manifest
-	m.Checkpoint = int(r.number(4))
-	m.Segment = int(r.number(4))
+	m.Checkpoint = int(r.number(numberBytes))
+	m.Segment = int(r.number(numberBytes))
 	if rest != "" || !r.ended() || m.Checkpoint > api.MaxNumber || m.Segment < 1 || m.Segment > api.MaxNumber {
 		return Manifest{}, ErrManifest
 	}

@@ -83,6 +83,31 @@ func TestFrame(t *testing.T) {
 	}
 }
 
+func TestFrameOf(t *testing.T) {
+	if got, want := FrameOf("\x00\x00\x00\x00\x01\x00\x00\x00"), "\x08\x00\x32\x18\x6d\x51\x00\x00\x00\x00\x01\x00\x00\x00"; got != want {
+		t.Errorf("the document's manifest: %x, want %x", got, want)
+	}
+	for _, size := range []int{0, 1, 255, 256, 653, 65535} {
+		body := strings.Repeat("\xfe", size)
+		if got, want := FrameOf(body), frame(body); got != want {
+			t.Errorf("a body of %d bytes: %x, want %x", size, got[:6], want[:6])
+		}
+	}
+}
+
+func TestBatchBytes(t *testing.T) {
+	example := Batch{Number: 1, Txns: [][]api.Op{{{Kind: api.Put, K: 5, A: 7}}}}
+	if got := example.Bytes(); got != "\x01\x00\x00\x00\x01\x01\x01\x05\x07\x00\x00\x00\x00\x00\x00\x00" {
+		t.Errorf("the document's batch: %x", got)
+	}
+	full := Batch{Number: 65536, Txns: slices.Repeat([][]api.Op{slices.Repeat([]api.Op{{Kind: api.Add, K: 9, A: -256}}, 8)}, 8)}
+	for _, b := range []Batch{everyKind(), full} {
+		if got, want := b.Bytes(), batchBody(b); got != want {
+			t.Errorf("%v: %x, want %x", b, got, want)
+		}
+	}
+}
+
 func TestReadBatch(t *testing.T) {
 	example := "\x01\x00\x00\x00\x01\x01\x01\x05\x07\x00\x00\x00\x00\x00\x00\x00"
 	b, err := ReadBatch(example)
