@@ -15,12 +15,15 @@ type Annal struct {
 	table       table.Table
 	last        int      // the number of the last batch
 	waiting     []string // the frames of the batches that wait, which are the last ones
-	base        int      // the number of the manifest's checkpoint (0: none)
-	segment     int      // the number of its segment (0: none)
-	segmentSize int      // how many bytes that has
-	nextSegment int      // the number of the next segment that is created
-	job         []step   // what is still to be done
-	reads       bool     // it can only be read
+	manifest    wire.Manifest
+	underWay    *checkpoint // nil: none
+	segment     int         // the number of its segment (0: none)
+	segmentSize int         // how many bytes that has
+	nextSegment int         // the number of the next segment that is created
+	segments    []int       // the numbers of those on the disk, in their order
+	checkpoints []int       // likewise
+	job         []step      // what is still to be done
+	reads       bool        // it can only be read
 }
 
 // Open reads an annal back (P10).
@@ -29,7 +32,14 @@ func Open(disk []api.File) (*Annal, api.Errno) {
 	if err != nil {
 		return nil, openErrno(err)
 	}
-	return &Annal{table: state.Table, last: state.Last, base: state.Base, nextSegment: state.NextSegment}, api.OK
+	return &Annal{
+		table:       state.Table,
+		last:        state.Last,
+		manifest:    state.Manifest,
+		nextSegment: state.NextSegment,
+		segments:    state.Segments,
+		checkpoints: state.Checkpoints,
+	}, api.OK
 }
 
 // openErrno: a name that stands twice is the caller's fault; any other fault stands in a file.
@@ -67,24 +77,15 @@ func (a *Annal) Get(key int) (int, bool, api.Errno) {
 	return value, has, api.OK
 }
 
-// Start begins a checkpoint (P7).
-func (a *Annal) Start() api.Errno { return a.refusal() }
-
-// Page goes on with it (P7).
-func (a *Annal) Page() api.Errno { return a.refusal() }
-
-// Trim removes old files (P8).
-func (a *Annal) Trim() api.Errno { return a.refusal() }
-
 // Look tells how the annal is (P9).
 func (a *Annal) Look() api.View {
 	return api.View{
 		Last:    a.last,
 		Acked:   a.last - len(a.waiting),
 		Waiting: len(a.waiting),
-		Base:    a.base,
+		Base:    a.manifest.Checkpoint,
 		Segment: a.segment,
-		Pages:   -1,
+		Pages:   a.pages(),
 		Job:     a.hasJob(),
 		Reads:   a.reads,
 	}

@@ -3,6 +3,7 @@ package annal_test
 import (
 	"hash/crc32"
 	"math/rand/v2"
+	"slices"
 	"strconv"
 	"strings"
 	"testing"
@@ -51,8 +52,8 @@ func segmentFile(n int, data string) api.File {
 	return api.File{Name: "log." + strconv.Itoa(n), Data: data}
 }
 
-func checkpointFile(b int, table map[int]int) api.File {
-	data := ""
+func pageFrames(table map[int]int) []string {
+	var frames []string
 	for page := range api.Pages {
 		has, values := 0, ""
 		for i := range api.PageKeys {
@@ -61,9 +62,13 @@ func checkpointFile(b int, table map[int]int) api.File {
 				values += little(v, 8)
 			}
 		}
-		data += frame(little(has, 1) + values)
+		frames = append(frames, frame(little(has, 1)+values))
 	}
-	return api.File{Name: "ckpt." + strconv.Itoa(b), Data: data + frame("end"+little(b, 4))}
+	return frames
+}
+
+func checkpointFile(b int, table map[int]int) api.File {
+	return api.File{Name: "ckpt." + strconv.Itoa(b), Data: strings.Join(pageFrames(table), "") + frame("end"+little(b, 4))}
 }
 
 // put: a batch of one transaction Put k v.
@@ -126,6 +131,11 @@ func (s storage) do(t *testing.T, x api.Act) {
 		s[x.Name] = ""
 	case api.Append:
 		s[x.Name] += x.Data
+	case api.Rename:
+		s[x.To] = s[x.Name]
+		delete(s, x.Name)
+	case api.Remove:
+		delete(s, x.Name)
 	case api.SyncDir:
 		there = true
 	}
@@ -145,6 +155,12 @@ func (s storage) files() []api.File {
 // acts are those of a job, all of which are done.
 func acts(t *testing.T, a *annal.Annal) []api.Act {
 	t.Helper()
+	return actsBut(t, a, -1)
+}
+
+// actsBut: the one at the place fail fails.
+func actsBut(t *testing.T, a *annal.Annal, fail int) []api.Act {
+	t.Helper()
 	var list []api.Act
 	for {
 		x, is := a.Act()
@@ -152,7 +168,7 @@ func acts(t *testing.T, a *annal.Annal) []api.Act {
 			return list
 		}
 		list = append(list, x)
-		if e := a.Done(true); e != api.OK {
+		if e := a.Done(len(list) != fail+1); e != api.OK {
 			t.Fatalf("P4: Done: %d", e)
 		}
 	}
@@ -166,6 +182,34 @@ func createActs(segment int) []api.Act {
 func writeActs(segment int, frames ...string) []api.Act {
 	name := "log." + strconv.Itoa(segment)
 	return []api.Act{{Kind: api.Append, Name: name, Data: strings.Join(frames, "")}, {Kind: api.Sync, Name: name}}
+}
+
+// checkpointJobs: those of a Start and of eight Pages.
+func checkpointJobs(b, n int, table map[int]int) [][]api.Act {
+	file := "ckpt." + strconv.Itoa(b)
+	jobs := [][]api.Act{{{Kind: api.Create, Name: file}}}
+	for _, page := range pageFrames(table) {
+		jobs = append(jobs, []api.Act{{Kind: api.Append, Name: file, Data: page}})
+	}
+	jobs[8] = append(jobs[8],
+		api.Act{Kind: api.Append, Name: file, Data: frame("end" + little(b, 4))},
+		api.Act{Kind: api.Sync, Name: file},
+		api.Act{Kind: api.SyncDir},
+		api.Act{Kind: api.Create, Name: "manifest.new"},
+		api.Act{Kind: api.Append, Name: "manifest.new", Data: manifestFile(b, n).Data},
+		api.Act{Kind: api.Sync, Name: "manifest.new"},
+		api.Act{Kind: api.Rename, Name: "manifest.new", To: "manifest"},
+		api.Act{Kind: api.SyncDir})
+	return jobs
+}
+
+// trimActs: these files are removed.
+func trimActs(names ...string) []api.Act {
+	var list []api.Act
+	for _, name := range names {
+		list = append(list, api.Act{Kind: api.Remove, Name: name})
+	}
+	return append(list, api.Act{Kind: api.SyncDir})
 }
 
 func mustSubmit(t *testing.T, a *annal.Annal, batch [][]api.Op) {
@@ -182,6 +226,39 @@ func mustFlush(t *testing.T, a *annal.Annal) []api.Act {
 		t.Fatalf("P6: Flush: %d", e)
 	}
 	return acts(t, a)
+}
+
+// mustCheckpoint: Start and eight Pages that nothing stands in the way of, with these acts.
+func mustCheckpoint(t *testing.T, a *annal.Annal, b, n int, table map[int]int) {
+	t.Helper()
+	for k, job := range checkpointJobs(b, n, table) {
+		mustJob(t, a, k)
+		if got := acts(t, a); !slices.Equal(got, job) {
+			t.Fatalf("P7: job %d: %#v, want %#v", k, got, job)
+		}
+	}
+}
+
+// mustJob begins the job number k of a checkpoint: that of the Start, or of a Page.
+func mustJob(t *testing.T, a *annal.Annal, k int) {
+	t.Helper()
+	call := a.Page
+	if k == 0 {
+		call = a.Start
+	}
+	if e := call(); e != api.OK {
+		t.Fatalf("P7: job %d: %d; %+v", k, e, a.Look())
+	}
+}
+
+func mustTrim(t *testing.T, a *annal.Annal, names ...string) {
+	t.Helper()
+	if e := a.Trim(); e != api.OK {
+		t.Fatalf("P8: Trim: %d", e)
+	}
+	if got, want := acts(t, a), trimActs(names...); !slices.Equal(got, want) {
+		t.Fatalf("P8: Trim: %#v, want %#v", got, want)
+	}
 }
 
 func mustLook(t *testing.T, what string, a *annal.Annal, want api.View) {

@@ -33,7 +33,7 @@ func (a *Annal) needsSegment() bool {
 
 func (a *Annal) createSteps(segment int) []step {
 	return []step{
-		{act: api.Act{Kind: api.Create, Name: names.Segment(segment)}, failed: a.onlyRead},
+		{act: api.Act{Kind: api.Create, Name: names.Segment(segment)}, done: func() { a.segments = with(a.segments, segment) }, failed: a.onlyRead},
 		// Only behind SyncDir: a crash ahead of it may take the file away, and what would be written to it.
 		{act: api.Act{Kind: api.SyncDir}, done: func() { a.goOnIn(segment) }, failed: a.onlyRead},
 	}

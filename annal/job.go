@@ -6,7 +6,7 @@ import "annal/api"
 type step struct {
 	act    api.Act
 	done   func() // nil: nothing
-	failed func()
+	failed func() // likewise
 }
 
 // Act tells what is to be done now (P4).
@@ -23,19 +23,22 @@ func (a *Annal) Done(ok bool) api.Errno {
 		return api.ErrIdle
 	}
 	now := a.job[0]
-	if !ok {
-		a.job = nil
-		now.failed()
-		return api.OK
-	}
 	a.job = a.job[1:]
-	if !a.hasJob() {
+	if !ok || !a.hasJob() {
 		a.job = nil // else the acts that are behind it would be kept
 	}
-	if now.done != nil {
-		now.done()
-	}
+	now.tell(ok)
 	return api.OK
+}
+
+func (s step) tell(ok bool) {
+	told := s.failed
+	if ok {
+		told = s.done
+	}
+	if told != nil {
+		told()
+	}
 }
 
 func (a *Annal) hasJob() bool {

@@ -116,6 +116,74 @@ func TestP5OnlyRead(t *testing.T) {
 	}
 }
 
+// jobs: annals that have a job of each kind, and how many acts it has.
+func jobs(t *testing.T) map[string]struct {
+	begin func() *annal.Annal
+	acts  int
+} {
+	checkpoint := func(last int) func() *annal.Annal {
+		return func() *annal.Annal {
+			a := logged(t)
+			for k := range last {
+				mustJob(t, a, k)
+				acts(t, a)
+			}
+			mustJob(t, a, last)
+			return a
+		}
+	}
+	trim := func() *annal.Annal {
+		a := mustOpen(t, aged()...)
+		if e := a.Trim(); e != api.OK {
+			t.Fatalf("P8: Trim: %d", e)
+		}
+		return a
+	}
+	return map[string]struct {
+		begin func() *annal.Annal
+		acts  int
+	}{"Start": {checkpoint(0), 1}, "Page 1": {checkpoint(1), 1}, "Page 7": {checkpoint(7), 1}, "Page 8": {checkpoint(8), 9}, "Trim": {trim, len(agedNames()) + 1}, "Flush": {func() *annal.Annal { return flushing(t, 0) }, 4}}
+}
+
+// Whatever the job, at each of its acts: no other one begins, and it goes on as if none had been asked for.
+func TestP5BusyInEveryJob(t *testing.T) {
+	for name, job := range jobs(t) {
+		want := acts(t, job.begin())
+		if len(want) != job.acts {
+			t.Errorf("P4: %s: %#v", name, want)
+		}
+		a := job.begin()
+		for k, act := range want {
+			for call, starter := range starters(a) {
+				refused(t, "P5: "+call+" in the job of "+name, a, starter, api.ErrBusy)
+			}
+			for range 2 {
+				if x, is := a.Act(); x != act || !is {
+					t.Errorf("P4: %s: act %d: %#v, want %#v", name, k, x, act)
+				}
+			}
+			if e := a.Done(true); e != api.OK {
+				t.Errorf("P4: %s: act %d: Done: %d", name, k, e)
+			}
+		}
+		if x, is := a.Act(); is || x != (api.Act{}) || a.Done(true) != api.ErrIdle || a.Look().Job {
+			t.Errorf("P4: behind %s: %#v", name, x)
+		}
+	}
+}
+
+// A job of any kind that failed is over at once.
+func TestP4EveryJobThatFails(t *testing.T) {
+	for name, job := range jobs(t) {
+		for fail := range job.acts {
+			a := job.begin()
+			if got := actsBut(t, a, fail); len(got) != fail+1 || a.Done(true) != api.ErrIdle || a.Done(false) != api.ErrIdle || a.Look().Job {
+				t.Errorf("P4: %s: act %d failed: %#v", name, fail, got)
+			}
+		}
+	}
+}
+
 func TestP2JobsAreApart(t *testing.T) {
 	a, b := flushing(t, 1), flushing(t, 2)
 	a.Done(false)

@@ -9,7 +9,8 @@ import (
 )
 
 const (
-	Manifest = "manifest"
+	Manifest    = "manifest"
+	NewManifest = "manifest.new" // the manifest, until it takes the place of the one ahead of it
 
 	checkpointStart = "ckpt."
 	segmentStart    = "log."
@@ -25,9 +26,18 @@ func Segment(number int) string {
 	return segmentStart + strconv.Itoa(number)
 }
 
+// CheckpointNumber tells the batch of the checkpoint of that name, and whether it is one.
+func CheckpointNumber(name string) (int, bool) {
+	return numberBehind(checkpointStart, name)
+}
+
 // SegmentNumber tells the number of the segment of that name, and whether it is one.
 func SegmentNumber(name string) (int, bool) {
-	digits, is := strings.CutPrefix(name, segmentStart)
+	return numberBehind(segmentStart, name)
+}
+
+func numberBehind(start, name string) (int, bool) {
+	digits, is := strings.CutPrefix(name, start)
 	if !is {
 		return 0, false
 	}
@@ -35,7 +45,7 @@ func SegmentNumber(name string) (int, bool) {
 	if err != nil || number < 1 || number > api.MaxNumber {
 		return 0, false
 	}
-	// Atoi takes signs and noughts ahead, which no segment's name has.
+	// Atoi takes signs and noughts ahead, which no file's name has.
 	if strconv.Itoa(number) != digits {
 		return 0, false
 	}

@@ -32,5 +32,16 @@ func TestCheckpoint(t *testing.T) {
 		if got := Checkpoint(n); got != want {
 			t.Errorf("checkpoint %d: %s", n, got)
 		}
+		if got, is := CheckpointNumber(want); got != n || !is {
+			t.Errorf("%s: %d, %v", want, got, is)
+		}
+	}
+}
+
+func TestNoCheckpoint(t *testing.T) {
+	for _, name := range []string{"", "ckpt", "ckpt.", "ckpt.0", "ckpt.01", "ckpt.-1", "ckpt.+1", "ckpt.1.", "ckpt. 1", "ckpt.1000000000", "xckpt.1", "CKPT.1", "log.1", "manifest", "manifest.new"} {
+		if n, is := CheckpointNumber(name); n != 0 || is {
+			t.Errorf("%q is no checkpoint: %d", name, n)
+		}
 	}
 }

@@ -32,6 +32,14 @@ func segmentsOf(disk []api.File) []segment {
 	return segments
 }
 
+func numbersOf(segments []segment) []int {
+	var numbers []int
+	for _, s := range segments {
+		numbers = append(numbers, s.number)
+	}
+	return numbers
+}
+
 // from leaves out the segments below the first one of the log.
 func from(segments []segment, first int) []segment {
 	for i, s := range segments {

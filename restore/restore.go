@@ -3,6 +3,7 @@ package restore
 
 import (
 	"errors"
+	"slices"
 
 	"annal/api"
 	"annal/names"
@@ -28,9 +29,11 @@ func (e *FileError) Unwrap() error { return e.Err }
 // State is what a disk tells.
 type State struct {
 	Table       table.Table
-	Base        int // the number of the manifest's checkpoint (0: none)
-	Last        int // the number of the last batch
-	NextSegment int // the number of the next segment that is created
+	Manifest    wire.Manifest
+	Last        int   // the number of the last batch
+	NextSegment int   // the number of the next segment that is created
+	Segments    []int // the numbers of those on the disk, in their order
+	Checkpoints []int // likewise
 }
 
 // Read reads the newest checkpoint and the log behind it.
@@ -48,7 +51,14 @@ func Read(disk []api.File) (State, error) {
 		return State{}, err
 	}
 	segments := segmentsOf(disk)
-	state := State{Table: base, Base: manifest.Checkpoint, Last: manifest.Checkpoint, NextSegment: nextSegment(segments, manifest.Segment)}
+	state := State{
+		Table:       base,
+		Manifest:    manifest,
+		Last:        manifest.Checkpoint,
+		NextSegment: nextSegment(segments, manifest.Segment),
+		Segments:    numbersOf(segments),
+		Checkpoints: checkpointsOf(disk),
+	}
 	state.replay(from(segments, manifest.Segment))
 	return state, nil
 }
@@ -90,4 +100,16 @@ func readCheckpoint(disk []api.File, places map[string]int, batch int) (table.Ta
 		return table.Table{}, &FileError{Name: name, Err: err}
 	}
 	return t, nil
+}
+
+// checkpointsOf lists all checkpoints on a disk, those too that are not as they must be: no one may need them, but they are there.
+func checkpointsOf(disk []api.File) []int {
+	var checkpoints []int
+	for _, file := range disk {
+		if batch, is := names.CheckpointNumber(file.Name); is {
+			checkpoints = append(checkpoints, batch)
+		}
+	}
+	slices.Sort(checkpoints)
+	return checkpoints
 }

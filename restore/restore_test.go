@@ -3,6 +3,8 @@ package restore
 import (
 	"errors"
 	"hash/crc32"
+	"reflect"
+	"slices"
 	"testing"
 
 	"annal/api"
@@ -42,7 +44,7 @@ func TestFaultsAreWrappedByTheirFile(t *testing.T) {
 	} {
 		state, err := Read(c.disk)
 		var fault *FileError
-		if !errors.As(err, &fault) || fault.Name != c.name || !errors.Is(err, c.want) || state != (State{}) {
+		if !errors.As(err, &fault) || fault.Name != c.name || !errors.Is(err, c.want) || !reflect.DeepEqual(state, State{}) {
 			t.Errorf("line %d: %v, want %s: %v", k, err, c.name, c.want)
 		}
 	}
@@ -80,5 +82,19 @@ func TestLast(t *testing.T) {
 		if state, err := Read(c.disk); err != nil || state.Last != c.last {
 			t.Errorf("line %d: %d, %v, want %d", k, state.Last, err, c.last)
 		}
+	}
+}
+
+func TestFilesOnTheDisk(t *testing.T) {
+	page := frame("\x00")
+	checkpoint := page + page + page + page + page + page + page + page + frame("end"+little(9, 4))
+	disk := []api.File{{Name: "ckpt.10"}, {Name: "log.10"}, {Name: "ckpt.9", Data: checkpoint}, {Name: "log.2"}, {Name: "ckpt.999999999", Data: "x"}, {Name: "log.9"}, {Name: "log.01"}, {Name: "ckpt.0"}, {Name: "ckpt.1000000000"}, {Name: "ckpt"}, {Name: "manifest.new"}, manifest(9, 3)}
+	state, err := Read(disk)
+	if err != nil || !slices.Equal(state.Segments, []int{2, 9, 10}) || !slices.Equal(state.Checkpoints, []int{9, 10, 999999999}) || state.Manifest != (wire.Manifest{Checkpoint: 9, Segment: 3}) {
+		t.Errorf("%v, %v", state, err)
+	}
+	state, err = Read(nil)
+	if err != nil || len(state.Segments) != 0 || len(state.Checkpoints) != 0 || state.Manifest != (wire.Manifest{Segment: 1}) {
+		t.Errorf("an empty disk: %v, %v", state, err)
 	}
 }

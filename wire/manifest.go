@@ -28,3 +28,10 @@ func ReadManifest(data string) (Manifest, error) {
 	}
 	return m, nil
 }
+
+// Bytes are those from which ReadManifest reads the manifest.
+func (m Manifest) Bytes() string {
+	body := appendNumber(nil, m.Checkpoint, numberBytes)
+	body = appendNumber(body, m.Segment, numberBytes)
+	return FrameOf(string(body))
+}

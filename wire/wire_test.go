@@ -230,3 +230,46 @@ func TestReadManifest(t *testing.T) {
 		}
 	}
 }
+
+func TestManifestBytes(t *testing.T) {
+	if got, want := (Manifest{0, 1}).Bytes(), "\x08\x00\x32\x18\x6d\x51\x00\x00\x00\x00\x01\x00\x00\x00"; got != want {
+		t.Errorf("the document's manifest: %x, want %x", got, want)
+	}
+	for _, m := range []Manifest{{1, 1}, {258, 65537}, {api.MaxNumber, api.MaxNumber}} {
+		if got, want := m.Bytes(), frame(little(m.Checkpoint, 4)+little(m.Segment, 4)); got != want {
+			t.Errorf("%v: %x, want %x", m, got, want)
+		}
+	}
+}
+
+func TestPageFrame(t *testing.T) {
+	var table table.Table
+	for k, v := range map[int]int{0: -3, 7: 1 << 40, 8: 0, 63: 9} {
+		table.Put(k, v)
+	}
+	for page, want := range pages() {
+		if got := PageFrame(&table, page); got != want {
+			t.Errorf("page %d: %x, want %x", page, got, want)
+		}
+	}
+	for k := range api.Keys {
+		table.Put(k, k<<56-1)
+	}
+	for page := range api.Pages {
+		want := "\xff"
+		for i := range api.PageKeys {
+			want += little((page*api.PageKeys+i)<<56-1, 8)
+		}
+		if got := PageFrame(&table, page); got != frame(want) {
+			t.Errorf("page %d of a full table: %x, want %x", page, got, frame(want))
+		}
+	}
+}
+
+func TestEndFrame(t *testing.T) {
+	for _, number := range []int{1, 258, api.MaxNumber} {
+		if got, want := EndFrame(number), frame("end"+little(number, 4)); got != want {
+			t.Errorf("the end of %d: %x, want %x", number, got, want)
+		}
+	}
+}
